@@ -1,0 +1,1 @@
+"""Armswing: an arm over a turning plate, and who is next."""
