@@ -46,3 +46,20 @@ def rings_of(zones):
 
 def all_cells(zones):
     return [(ring, place) for ring, count in enumerate(rings_of(zones)) for place in range(count)]
+
+
+FIELDS = ["kind", "first", "many", "marks", "at", "asker", "latest", "behind", "early"]
+
+
+def fields(ask):
+    return tuple(getattr(ask, name) for name in FIELDS)
+
+
+def tells(plate):
+    """All that a plate tells, so that two plates, or one at two times, can be held against one another."""
+    cells = [plate.cell_at(number) for number in range(plate.total())]
+    rings = range(plate.rings())
+    places = [(ring, place) for ring in rings for place in range(plate.cells_of(ring))]
+    return (cells, [plate.number_of(*cell) for cell in places], [plate.begins(*cell) for cell in places],
+            [(plate.cells_of(ring), plate.beats_of(ring)) for ring in rings],
+            [plate.swing_of(ring, other) for ring in rings for other in rings], plate.lap_beats())

@@ -144,6 +144,72 @@ class TestForms(unittest.TestCase):
         for path, node in of_kind(ast.Compare):
             if isinstance(node.ops[0], (ast.Is, ast.IsNot)):
                 self.assertIn(node.comparators[0].value, (None, True, False), (path, node.lineno))
+        for path, node in of_kind(ast.BinOp):
+            if isinstance(node.op, ast.Pow):
+                self.assertIsInstance(node.right, ast.Constant, (path, node.lineno))
+        for path, node in of_kind(ast.FormattedValue):
+            self.assertIsInstance(node.value, ast.Name, (path, node.lineno))
+            self.assertIsNone(node.format_spec, (path, node.lineno))
+
+    def test_classes_are_called_and_named_alone(self):
+        classes = {node.name for path, node in of_kind(ast.ClassDef)}
+        for path, tree in trees():
+            allowed = []
+            for node in ast.walk(tree):
+                if isinstance(node, ast.Call):
+                    allowed.append(node.func)
+                    if isinstance(node.func, ast.Attribute) and node.func.attr == "__init__":
+                        allowed.append(node.func.value)
+                    if isinstance(node.func, ast.Name) and node.func.id == "isinstance":
+                        allowed.append(node.args[1])
+                if isinstance(node, ast.ClassDef):
+                    allowed.extend(node.bases)
+                if isinstance(node, ast.ExceptHandler):
+                    allowed.extend(node.type.elts if isinstance(node.type, ast.Tuple) else [node.type])
+            for node in ast.walk(tree):
+                if isinstance(node, ast.Name) and node.id in classes:
+                    self.assertIn(node, allowed, (path, node.lineno))
+                if isinstance(node, ast.Attribute) and isinstance(node.ctx, ast.Store):
+                    self.assertIsInstance(node.value, ast.Name, (path, node.lineno))
+
+    def test_errors_are_made_on_the_spot_and_taken_by_name(self):
+        for path, node in of_kind(ast.Raise):
+            self.assertIsInstance(node.exc, ast.Call, (path, node.lineno))
+        own = {node.name for path, node in of_kind(ast.ClassDef)}
+        for path, node in of_kind(ast.ExceptHandler):
+            self.assertIsInstance(node.type, ast.Name, (path, node.lineno))
+            self.assertIn(node.type.id, own | {"KeyError", "ZeroDivisionError", "StopIteration"}, (path, node.lineno))
+
+    def test_keywords_of_pythons_own(self):
+        told = {"sorted": ["key", "reverse"], "min": ["key", "default"], "max": ["key", "default"],
+                "sum": ["start"], "enumerate": ["start"], "zip": ["strict"]}
+        own = {node.name for path, node in of_kind(ast.FunctionDef, ast.ClassDef)}
+        for path, node in of_kind(ast.Call):
+            for keyword in node.keywords:
+                name = getattr(node.func, "id", "") or node.func.attr
+                if name not in own:
+                    self.assertIn(keyword.arg, told.get(name, []), (path, node.lineno))
+                if keyword.arg == "key":
+                    self.assertIsInstance(keyword.value, ast.Lambda, (path, node.lineno))
+
+    def test_walked_at_once(self):
+        walking = ["zip", "enumerate", "reversed", "range", "items", "keys", "values"]
+        around = ["list", "tuple", "dict", "sorted", "sum", "any", "all", "enumerate", "zip", "min", "max", "join"]
+        for path, tree in trees():
+            allowed = []
+            for node in ast.walk(tree):
+                if isinstance(node, (ast.For, ast.comprehension)):
+                    allowed.append(node.iter)
+                if isinstance(node, ast.Call) and node.args:
+                    if (getattr(node.func, "id", "") or getattr(node.func, "attr", "")) in around:
+                        allowed.append(node.args[0])
+            for node in ast.walk(tree):
+                if isinstance(node, ast.Call):
+                    name = getattr(node.func, "id", "") or getattr(node.func, "attr", "")
+                    if name in walking:
+                        self.assertIn(node, allowed, (path, node.lineno))
+                    # Narrower than L24, which lets a set stand in a few places: the program needs none.
+                    self.assertNotIn(name, ("set", "frozenset"), (path, node.lineno))
 
 
 class TestNames(unittest.TestCase):
@@ -164,6 +230,7 @@ class TestNames(unittest.TestCase):
             nodes = list(ast.walk(tree))
             bound = [node.id for node in nodes if isinstance(node, ast.Name) and isinstance(node.ctx, ast.Store)]
             bound += [node.arg for node in nodes if isinstance(node, ast.arg)]
+            bound += [node.name for node in nodes if isinstance(node, ast.ExceptHandler) and node.name]
             for name in bound:
                 self.assertNotIn(name, dir(builtins), path)
                 self.assertNotIn(name, tops, path)

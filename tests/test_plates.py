@@ -2,7 +2,7 @@ import unittest
 
 from armswing.errors import NoCell, NoPlate
 from armswing.plates import Plate
-from samples import ONE_ZONE, PLATES, SMALL, all_cells, even_swing, level_swing, rings_of
+from samples import ONE_ZONE, PLATES, SMALL, all_cells, even_swing, level_swing, rings_of, tells
 
 
 def plates():
@@ -219,14 +219,6 @@ class TestNumbers(unittest.TestCase):
         plate = Plate(*SMALL)
         self.assertEqual(plate.number_of(0, 2), 2)
         self.no_cell(lambda: plate.number_of(1, 2), (1, 2))
-
-
-def tells(plate):
-    cells = [plate.cell_at(number) for number in range(plate.total())]
-    rings = range(plate.rings())
-    return (cells, [plate.number_of(*cell) for cell in cells], [plate.begins(*cell) for cell in cells],
-            [(plate.cells_of(ring), plate.beats_of(ring)) for ring in rings],
-            [plate.swing_of(ring, other) for ring in rings for other in rings], plate.lap_beats())
 
 
 class TestListsOfOthers(unittest.TestCase):
