@@ -6,16 +6,12 @@ from armswing.mended import Mended
 from armswing.orders import Due
 from armswing.plates import Plate
 from armswing.rules import First, Latest, Nearest, Rule, Soonest
+from rows import on_rings
 from samples import ONE_ZONE, SMALL, fields, tells
 
 PLATE = Plate(*ONE_ZONE)
 # Five rings of two cells; a cell passes in 5 beats.
 WIDE = Plate([(5, 2)], 10, 0, [0, 1, 2, 3, 4])
-
-
-def on_rings(plate, numbers, **more):
-    """Dues, each told as number: ring, that read the first cell of a ring."""
-    return [Due(plate, number, reading(plate.number_of(ring, 0), 1, 0, **more)) for number, ring in numbers.items()]
 
 
 def by_latest(latests):
