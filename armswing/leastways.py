@@ -10,8 +10,12 @@ from armswing.ways import way_end
 MOST_DUES = 7
 
 
+def are_few(dues):
+    return len(dues) <= MOST_DUES
+
+
 def check_few(dues):
-    if len(dues) > MOST_DUES:
+    if not are_few(dues):
         raise TooMany("orders are gone over of at most seven dues")
 
 
@@ -49,26 +53,31 @@ def bound_of(plate, ring, beat, dues):
     return max([one_by_one] + [way_end(plate, ring, beat, due.cells)[1] for due in dues])
 
 
-def beginning(plate, dues, begun, ring, beat):
+def beginning(plate, dues, begun, stop):
     # The fewest dues left stand ahead of the order begun, so that of equal bounds the one nearest its end is next.
     left = left_behind(dues, begun)
-    return (bound_of(plate, ring, beat, left), len(left), begun, ring, beat)
+    return (bound_of(plate, stop[0], stop[1], left), len(left), begun, stop)
+
+
+def put_longer_ones(heap, plate, dues, kept, node):
+    begun = node[2]
+    stop = node[3]
+    for due in next_behind(dues, kept, begun):
+        later = way_end(plate, stop[0], stop[1], due.cells)
+        heap_put(heap, beginning(plate, dues, begun + (due.number,), later))
 
 
 def least_way(plate, ring, beat, dues):
     check_few(dues)
     kept = behind_among(dues)
     heap = []
-    heap_put(heap, beginning(plate, dues, (), ring, beat))
-    bound, left, begun, here, free = heap_take(heap)
-    while left > 0:
-        for due in next_behind(dues, kept, begun):
-            there, later = way_end(plate, here, free, due.cells)
-            heap_put(heap, beginning(plate, dues, begun + (due.number,), there, later))
-        bound, left, begun, here, free = heap_take(heap)
-    # No bound in the heap is less than this one, whose dues are all gone over.
-    leaves = [(begun, bound)] + [(other[2], other[0]) for other in heap]
-    return (begun, bound, leaves)
+    node = beginning(plate, dues, (), (ring, beat))
+    while node[1] > 0:
+        put_longer_ones(heap, plate, dues, kept, node)
+        node = heap_take(heap)
+    # No bound in the heap is less than that of this one, whose dues are all gone over.
+    leaves = [(other[2], other[0]) for other in [node] + heap]
+    return (node[2], node[0], leaves)
 
 
 def how_far(plate, asks, rule, ring=0):

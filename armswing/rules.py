@@ -1,6 +1,6 @@
 """Rules that keep nothing: which one of some dues is next."""
 
-from armswing.ways import next_begin
+from armswing.ways import way
 
 
 def ring_of(due):
@@ -16,8 +16,7 @@ def nearest_of(ring, dues):
 
 
 def first_begin(plate, ring, beat, due):
-    other, place = due.cells[0]
-    return next_begin(plate, other, place, beat + plate.swing_of(ring, other))
+    return way(plate, ring, beat, due.cells[:1])[0][2]
 
 
 def soonest_of(plate, ring, beat, dues):

@@ -43,8 +43,8 @@ class Shares(Rule):
     def pick(self, plate, ring, beat, dues):
         least = least_by_asker(dues)
         self.check_askers(least)
-        asker, share = self.pairs[self.turn]
-        if self.used >= share or asker not in least:
+        pair = self.pairs[self.turn]
+        if self.used >= pair[1] or pair[0] not in least:
             self.turn = self.next_turn(least)
             self.used = 0
         self.used = self.used + 1

@@ -1,6 +1,7 @@
 """Rows of asks and rules that several tests go over, and what doing a row one by one tells."""
 
 from armswing.asks import reading, resting, writing
+from armswing.careful import Careful
 from armswing.lifts import Lift, Sweep
 from armswing.mended import Mended
 from armswing.orders import Due
@@ -22,7 +23,7 @@ MADE = [
 
 # Askers of the rows below are 0 to 3, each of which has a share in the shares here.
 RULES = [
-    Rule, First, Nearest, Soonest, Latest, Lift, Sweep,
+    Rule, First, Nearest, Soonest, Latest, Careful, Lift, Sweep,
     lambda: Lift(True), lambda: Sweep(True), lambda: Lift(calm=False),
     lambda: Shares([(0, 1), (1, 2), (2, 3), (3, 4)]), lambda: Shares([(3, 1), (2, 1), (1, 1), (0, 4)]),
 ]

@@ -136,6 +136,7 @@ class TestForms(unittest.TestCase):
             self.assertNotIn("%", str(node.value), (path, node.lineno))
         for path, node in of_kind(ast.Assign):
             self.assertEqual(len(node.targets), 1, (path, node.lineno))
+            self.assertIsInstance(node.targets[0], (ast.Name, ast.Attribute, ast.Subscript), (path, node.lineno))
         for path, node in of_kind(ast.ListComp):
             self.assertEqual(len(node.generators), 1, (path, node.lineno))
             self.assertLessEqual(len(node.generators[0].ifs), 1, (path, node.lineno))
