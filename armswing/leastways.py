@@ -82,7 +82,7 @@ def least_way(plate, ring, beat, dues):
 
 def how_far(plate, asks, rule, ring=0):
     orders(plate, asks)
-    dues = [Due(plate, number, ask) for number, ask in enumerate(asks) if ask.kind != "rest"]
+    dues = [Due(plate, number, ask) for number, ask in enumerate(asks)]
     check_few(dues)
     played = play(plate, asks, rule, ring)
     return (played.end, least_way(plate, ring, 0, dues)[1])
